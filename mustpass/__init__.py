@@ -1,0 +1,1 @@
+"""Mustpass: rooms through which every way goes, loops, and where marks meet."""
