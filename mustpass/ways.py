@@ -32,10 +32,18 @@ def trace_way(step_before, room):
     return way
 
 
+# All rooms are looked at twice: NoRoom for any of them goes ahead of Unreached for any.
+def check_all_reached(net, some):
+    for room in some:
+        net.check_room(room)
+    step_before = steps_past(net, None)
+    for room in some:
+        if room not in step_before:
+            raise Unreached("no way leads to this room")
+
+
 def check_reached(net, room):
-    net.check_room(room)
-    if room not in steps_past(net, None):
-        raise Unreached("no way leads to this room")
+    check_all_reached(net, [room])
 
 
 def reached(net):

@@ -1,6 +1,8 @@
-"""Point 1: nothing here uses a clock, chance or files."""
+"""Point 1: nothing here uses a clock, chance or files; and the names and arguments of the interface."""
 
 import ast
+import importlib
+import inspect
 import os
 import unittest
 
@@ -8,6 +10,13 @@ import mustpass
 
 FOLDER = os.path.dirname(os.path.abspath(mustpass.__file__))
 NOT_USED = {"open", "input", "print", "exec", "eval", "compile", "globals", "getattr", "id", "hash", "__import__"}
+FUNCTIONS = {
+    "ways": {"reached": ["net"], "way_to": ["net", "room"], "way_past": ["net", "room", "other"]},
+    "guards": {"guards": ["net", "room", "other"], "guards_of": ["net", "room"], "nearest": ["net", "room"],
+               "bars_of": ["net", "room"], "common": ["net", "some"]},
+    "loops": {"back_doors": ["net"], "loops": ["net"], "wild_ring": ["net"]},
+    "marks": {"edge": ["net", "room"], "joins": ["net", "some"]},
+}
 
 
 def parsed_files():
@@ -34,8 +43,16 @@ class TestPackage(unittest.TestCase):
 
     def test_the_files_of_the_interface_are_there(self):
         names = [name for name, tree in parsed_files()]
-        for name in ("__init__.py", "errors.py", "nets.py", "ways.py"):
+        for name in ("__init__.py", "errors.py", "nets.py", "ways.py", "guards.py", "loops.py", "marks.py"):
             self.assertIn(name, names)
+
+    def test_the_functions_of_the_interface_and_their_arguments_are_there(self):
+        for file, functions in FUNCTIONS.items():
+            module = importlib.import_module(f"mustpass.{file}")
+            for name, arguments in functions.items():
+                call = getattr(module, name)
+                self.assertEqual(list(inspect.signature(call).parameters), arguments, name)
+                self.assertEqual(call.__module__, f"mustpass.{file}")
 
 
 if __name__ == "__main__":

@@ -5,7 +5,7 @@ import unittest
 from mustpass.errors import NoRoom, Unreached
 from mustpass.nets import Net
 from mustpass.ways import reached, way_past, way_to
-from tests.helper import BIG, assert_refused, assert_way, chain, come_to, mixed_nets, small_nets, spoil
+from tests.helper import assert_refused, assert_way, chain, come_to, mixed_nets, small_nets, spoil, wrong_rooms
 
 
 class TestReached(unittest.TestCase):
@@ -195,21 +195,17 @@ class TestAsked(unittest.TestCase):
 
 class TestRefusals(unittest.TestCase):
 
-    def wrong_rooms(self, net):
-        rooms = net.rooms()
-        return (-1, -2, -rooms, -rooms - 1, rooms, rooms + 1, 41, 1000, BIG, -BIG)
-
     def nets(self):
         return [Net(1, []), Net(4, [(0, 1), (2, 0), (2, 3)]), Net(40, chain(30))]
 
     def test_way_to_a_room_that_the_net_does_not_have(self):
         for net in self.nets():
-            for wrong in self.wrong_rooms(net):
+            for wrong in wrong_rooms(net):
                 assert_refused(self, NoRoom, way_to, net, wrong)
 
     def test_way_past_with_a_room_that_the_net_does_not_have(self):
         for net in self.nets():
-            for wrong in self.wrong_rooms(net):
+            for wrong in wrong_rooms(net):
                 for right in range(net.rooms()):
                     assert_refused(self, NoRoom, way_past, net, wrong, right)
                     # Rooms that are not reached are among these: NoRoom goes ahead of Unreached.
